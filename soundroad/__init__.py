@@ -1,0 +1,1 @@
+"""Soundroad: sounds in pieces over a late road."""
