@@ -1,7 +1,9 @@
 import unittest
 
+from soundroad.clocks import line_under, straight
 from soundroad.errors import BadBytes, BadSounds, NoLine, RoadError
 from soundroad.packing import unpacked
+from soundroad.players import Player
 
 REFUSALS = (BadBytes, NoLine, BadSounds)
 
@@ -29,10 +31,20 @@ class ErrorClasses(unittest.TestCase):
                 with self.assertRaises(above):
                     raise refusal("words")
 
-    def test_bad_bytes_are_refused_by_bad_bytes_alone(self):
-        with self.assertRaises(ValueError) as met:
-            unpacked(())
-        self.assertIs(type(met.exception), BadBytes)
+    def test_each_refusal_is_of_its_own_class_alone(self):
+        for refused, refusal in (
+            (lambda: unpacked(()), BadBytes),
+            (lambda: unpacked((0, 1, 0, 0, 0)), BadBytes),
+            (lambda: line_under(()), NoLine),
+            (lambda: line_under(((3, 4), (3, 5))), NoLine),
+            (lambda: straight(()), NoLine),
+            (lambda: straight(((3, 4), (3, 5))), NoLine),
+            (lambda: Player(2, 1, 10).put(0, (1,)), BadSounds),
+            (lambda: Player(2, 1, 10).put(0, (1, 2, 3)), BadSounds),
+        ):
+            with self.assertRaises(ValueError) as met:
+                refused()
+            self.assertIs(type(met.exception), refusal)
 
 
 if __name__ == "__main__":

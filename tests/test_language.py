@@ -24,6 +24,9 @@ PYTHONS_METHODS = set(
 WORDS_OUT = re.compile(
     r"\b(type|typing|typing_extensions|enum|Enum|IntEnum|StrEnum|Flag|IntFlag|Generic|Protocol|ABC|ABCMeta|"
     r"namedtuple|NamedTuple|TypedDict|TYPE_CHECKING|abstractmethod)\b|dataclass|overload|contextmanager")
+VALUES_OUT = set("items keys values pop update append clear extend insert remove reverse setdefault sort args encode "
+                 "format".split())
+WALKED_AT_ONCE = ("zip", "enumerate", "reversed", "range", "items", "keys", "values")
 DOUBLE_UNDERSCORES = ("__init__", "__eq__", "__repr__", "__str__", "__len__")
 
 
@@ -104,8 +107,8 @@ class Language(unittest.TestCase):
             if isinstance(node, ast.Name) and hasattr(builtins, node.id):
                 self.assertIn(node.id, PYTHONS_OWN, (path, node.lineno))
             for name in bound_names(node):
-                self.assertFalse(hasattr(builtins, name), (path, name))
                 if name not in DOUBLE_UNDERSCORES:
+                    self.assertFalse(hasattr(builtins, name), (path, name))
                     self.assertRegex(name, r"\A[A-Za-z][A-Za-z0-9_]*\Z", path)
 
     def test_methods(self):
@@ -113,6 +116,55 @@ class Language(unittest.TestCase):
         for path, node in walked():
             if isinstance(node, ast.Call) and isinstance(node.func, ast.Attribute):
                 self.assertIn(node.func.attr, PYTHONS_METHODS | own, (path, node.lineno))
+
+    def test_values_of_objects(self):
+        methods = {part.name for path, node in walked() if isinstance(node, ast.ClassDef)
+                   for part in node.body if isinstance(part, ast.FunctionDef)}
+        for path, node in walked():
+            if isinstance(node, ast.Attribute):
+                self.assertRegex(node.attr, r"\A[A-Za-z][A-Za-z0-9_]*\Z", (path, node.lineno))
+                if isinstance(node.ctx, ast.Store):
+                    self.assertNotIn(node.attr, methods | VALUES_OUT, (path, node.lineno))
+
+    def test_is_stands_beside_none_and_truths(self):
+        for path, node in walked():
+            if isinstance(node, ast.Compare):
+                for sign, value in zip(node.ops, node.comparators):
+                    if isinstance(sign, (ast.Is, ast.IsNot)):
+                        self.assertIsInstance(value, ast.Constant, (path, node.lineno))
+                        self.assertIn(value.value, (None, True, False), (path, node.lineno))
+
+    def test_what_is_walked_is_not_kept(self):
+        for path, node in walked():
+            if isinstance(node, (ast.Assign, ast.Return)) and isinstance(node.value, ast.Call):
+                name = getattr(node.value.func, "id", getattr(node.value.func, "attr", ""))
+                self.assertNotIn(name, WALKED_AT_ONCE, (path, node.lineno))
+
+    def test_names_of_a_file_are_bound_once_to_plain_values(self):
+        for path, text in sources():
+            names = []
+            for node in ast.parse(text).body:
+                self.assertIsInstance(node, (ast.Expr, ast.ImportFrom, ast.FunctionDef, ast.ClassDef, ast.Assign))
+                if isinstance(node, ast.Assign):
+                    ast.literal_eval(node.value)
+                    names.append(node.targets[0].id)
+                names += [node.name] if isinstance(node, (ast.FunctionDef, ast.ClassDef)) else []
+                names += [part.name for part in getattr(node, "names", [])]
+            self.assertEqual(len(names), len(set(names)), path)
+
+    def test_imports_name_the_file_that_defines_and_go_no_rounds(self):
+        draws = {}
+        for path, text in sources():
+            imports = [node for node in ast.parse(text).body if isinstance(node, ast.ImportFrom)]
+            draws[path.stem] = {node.module.split(".")[1] for node in imports}
+            for node in imports:
+                defined = (PACKAGE / (node.module.split(".")[1] + ".py")).read_text()
+                for part in node.names:
+                    self.assertRegex(defined, rf"(?m)^(def |class )?{part.name}\b", path)
+        while draws:
+            free = [name for name in draws if not draws[name]]
+            self.assertNotEqual(free, [], draws)
+            draws = {name: draws[name] - set(free) for name in draws if name not in free}
 
 
 if __name__ == "__main__":
